@@ -1,0 +1,1 @@
+"""Endnever: little machines, all of them sorted."""
