@@ -20,9 +20,14 @@ class Walk:
         self.place = place
         self.marks = {where: sign for where, sign in strip}
 
+    def look(self):
+        """The row, the place, and the sign that is read there."""
+        return (self.row, self.place, self.marks.get(self.place, 0))
+
     def entry(self):
         """The entry that is looked up where the machine stands."""
-        return self.table[self.row][self.marks.get(self.place, 0)]
+        row, place, sign = self.look()
+        return self.table[row][sign]
 
     def step(self):
         """Does one step and tells True, or tells False where the machine ends."""

@@ -29,13 +29,16 @@ def setups(machine, most):
     return told
 
 
+def looks(machine, most):
+    """The row, place and sign that is read, at each moment from 0 to most or up to the end."""
+    walk = begun(machine)
+    told = [walk.look()]
+    while len(told) <= most and walk.step():
+        told.append(walk.look())
+    return told
+
+
 def touched(machine, most):
     """The least and the greatest place that is read at the moments from 0 to most, or up to the end."""
-    walk = begun(machine)
-    low = high = walk.place
-    moment = 0
-    while moment < most and walk.step():
-        moment += 1
-        low = min(low, walk.place)
-        high = max(high, walk.place)
-    return (low, high)
+    places = [place for row, place, sign in looks(machine, most)]
+    return (min(places), max(places))

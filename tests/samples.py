@@ -84,6 +84,33 @@ def plain_walk(machine, most):
         row = entry[2]
 
 
+def plain_ring(trail, early, late):
+    """Whether the moments make a ring, by the words of point 9; the trail is of a machine that goes on."""
+    return early < late and trail[early] == trail[late]
+
+
+def plain_drift(trail, early, late):
+    """Whether the moments make a drift, by the words of point 10; the trail is of a machine that goes on."""
+    if early >= late:
+        return False
+    row, place, strip = trail[early]
+    late_row, late_place, late_strip = trail[late]
+    if row != late_row or place == late_place:
+        return False
+    places = [where for _, where, _ in trail[early:late]]
+    far = len(trail) + 2
+    looked_at = range(min(places), 2 * far) if place < late_place else range(-2 * far, max(places) + 1)
+    marks, late_marks = dict(strip), dict(late_strip)
+    return all(marks.get(x, 0) == late_marks.get(x + late_place - place, 0) for x in looked_at)
+
+
+def pairs_that(rule, machine, most):
+    """All pairs of moments up to most that keep to a rule of two moments."""
+    told, ended = plain_walk(machine, most)
+    last = len(told) - 1 - ended
+    return [(early, late) for late in range(last + 1) for early in range(last + 1) if rule(told, early, late)]
+
+
 def no_machines():
     """Lists of lists of tuples of whole numbers that are no machines."""
     told = [[], [[]], [[], []], filled(5, 2), filled(5, 4), filled(12, 3)]
