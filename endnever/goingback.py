@@ -58,3 +58,11 @@ def no_back(machine, most):
         if parts == []:
             return None if run(machine, depth - 1)[0] == "ends" else ("back", depth)
     return None
+
+
+def shows_back(machine, depth):
+    """Whether the back paper of a depth shows that a machine never ends.
+
+    Where there is no part at a depth, there is none at a greater one either: so the least such depth tells it of all.
+    """
+    return 1 <= depth <= MOST_DEPTH and no_back(machine, depth) is not None

@@ -1,10 +1,10 @@
 """Rings and drifts: a setup that comes again, in its place or led along.
 
-The end needs no look of its own here: at the later moment the machine looks up the entry by which it did a step at the
-earlier one, so this is not the empty one.
+The searches, ring and drift, need no look at the end: at the later moment the machine looks up the very entry by which
+it did a step at the earlier one, so this is not the empty one.
 """
 
-from endnever.runs import setups
+from endnever.runs import MOST_MOMENT, begun, setups
 
 
 def setup_key(setup):
@@ -59,3 +59,43 @@ def drift(machine, most):
         if early is not None:
             return ("drift", early, late)
     return None
+
+
+def walked(walk, steps):
+    """The least and the greatest place read ahead of so many steps, which are done; None where the machine ends."""
+    low = high = walk.place
+    for moment in range(steps):
+        low = min(low, walk.place)
+        high = max(high, walk.place)
+        if not walk.step():
+            return None
+    return (low, high)
+
+
+def between(machine, early, late):
+    """The setups at two moments, and the least and the greatest place read from the one to just ahead of the other.
+
+    None, where they are no two moments of a paper, or the machine ends behind so many steps.
+    """
+    walk = begun(machine)
+    if not 0 <= early < late <= MOST_MOMENT:
+        return None
+    if walked(walk, early) is None:
+        return None
+    first = walk.setup()
+    stretch = walked(walk, late - early)
+    if stretch is None or walk.entry() == ():
+        return None
+    return (first, walk.setup(), stretch[0], stretch[1])
+
+
+def shows_ring(machine, early, late):
+    """Whether the ring paper of two moments shows that a machine never ends."""
+    both = between(machine, early, late)
+    return both is not None and both[0] == both[1]
+
+
+def shows_drift(machine, early, late):
+    """Whether the drift paper of two moments shows that a machine never ends."""
+    both = between(machine, early, late)
+    return both is not None and is_led_along(both[0], both[1], both[2], both[3])

@@ -2,6 +2,9 @@
 
 from endnever.machines import Walk, first_setup, must_machine
 
+# The last moment that a paper may speak of.
+MOST_MOMENT = 1000
+
 
 def begun(machine):
     """A walk at moment 0, refused with NoMachine ahead of all else."""

@@ -1,13 +1,16 @@
-"""Points 2 and 5, of everything that is asked of a machine: NoMachine first; what is told is the asker's own."""
+"""Points 2 and 5, of what is asked of a machine: NoMachine goes first, and what is told is the asker's own."""
 
 import copy
 import unittest
 
 import samples
+from endnever.alike import are_alike, groups, least_form
 from endnever.errors import NoMachine
 from endnever.goingback import no_back, parts_at
+from endnever.lookers import shows
 from endnever.meets import met_entries, parts_from, records, visits
 from endnever.rings import drift, ring
+from endnever.shut import least_shut, shows_shut
 from endnever.texts import read_machine, show_machine
 
 # Each is asked of a machine alone: the other things handed in are plain numbers.
@@ -30,6 +33,18 @@ ASKS = {
     "parts_from": lambda machine: parts_from(machine, samples.RIGHT_FOR_EVER, 20),
     "parts_from, the other one": lambda machine: parts_from(samples.RIGHT_FOR_EVER, machine, 20),
     "parts_from, at once": lambda machine: parts_from(machine, machine, 0),
+    "shows_shut": lambda machine: shows_shut(machine, ("shut", 1, [(0,)], [(0,)], [((0,), 0, 0, (0,))])),
+    "least_shut 1": lambda machine: least_shut(machine, 1),
+    "least_shut 2": lambda machine: least_shut(machine, 2),
+    "shows, ends": lambda machine: shows(machine, ("ends", 5)),
+    "shows, ring": lambda machine: shows(machine, ("ring", 0, 2)),
+    "shows, drift": lambda machine: shows(machine, ("drift", 0, 1)),
+    "shows, back": lambda machine: shows(machine, ("back", 2)),
+    "shows, open": lambda machine: shows(machine, ("open",)),
+    "least_form": least_form,
+    "are_alike": lambda machine: are_alike(machine, samples.RIGHT_FOR_EVER),
+    "are_alike, the other one": lambda machine: are_alike(samples.RIGHT_FOR_EVER, machine),
+    "groups": lambda machine: groups([samples.EMPTY, machine, samples.RIGHT_FOR_EVER, machine]),
 }
 
 
