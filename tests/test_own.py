@@ -5,12 +5,14 @@ import unittest
 
 import samples
 from endnever.alike import are_alike, groups, least_form
+from endnever.blocks import by_blocks, through
 from endnever.errors import NoMachine
 from endnever.goingback import no_back, parts_at
 from endnever.lookers import shows
 from endnever.meets import met_entries, parts_from, records, visits
 from endnever.rings import drift, ring
 from endnever.shut import least_shut, shows_shut
+from endnever.sorting import sorted_as
 from endnever.texts import read_machine, show_machine
 
 # Each is asked of a machine alone: the other things handed in are plain numbers.
@@ -45,6 +47,10 @@ ASKS = {
     "are_alike": lambda machine: are_alike(machine, samples.RIGHT_FOR_EVER),
     "are_alike, the other one": lambda machine: are_alike(samples.RIGHT_FOR_EVER, machine),
     "groups": lambda machine: groups([samples.EMPTY, machine, samples.RIGHT_FOR_EVER, machine]),
+    "sorted_as": sorted_as,
+    "through": lambda machine: through(machine, (0, 1), 0, 1),
+    "by_blocks": lambda machine: by_blocks(machine, 2, 9),
+    "by_blocks, at once": lambda machine: by_blocks(machine, 3, 0),
 }
 
 
