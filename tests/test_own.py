@@ -13,6 +13,7 @@ from endnever.meets import met_entries, parts_from, records, visits
 from endnever.rings import drift, ring
 from endnever.shut import least_shut, shows_shut
 from endnever.sorting import sorted_as
+from endnever.strides import by_strides
 from endnever.texts import read_machine, show_machine
 
 # Each is asked of a machine alone: the other things handed in are plain numbers.
@@ -50,6 +51,8 @@ ASKS = {
     "sorted_as": sorted_as,
     "through": lambda machine: through(machine, (0, 1), 0, 1),
     "by_blocks": lambda machine: by_blocks(machine, 2, 9),
+    "by_strides": lambda machine: by_strides(machine, 0, ([(1, 2)], 0, [(0, 3), (1, 1)]), 9),
+    "by_strides, at once": lambda machine: by_strides(machine, 0, ([], 0, []), 0),
     "by_blocks, at once": lambda machine: by_blocks(machine, 3, 0),
 }
 
