@@ -1,6 +1,6 @@
 """The part of Python that the package keeps to: those of its rules that a walk over the files can see.
 
-A rule that isn't looked at here (most of L15, L19, L22 to L24 and L28) still holds.
+A rule that isn't looked at here, or only in part (most of L15, L19, L22 to L24 and L28), still holds.
 """
 
 import ast
@@ -109,6 +109,27 @@ class Language(unittest.TestCase):
                 for drawn in node.names:
                     self.assertIn(drawn.name, top_names(source), f"{path.name} draws {drawn.name}")
 
+    def test_no_two_files_draw_from_one_another(self):
+        draws = {f"endnever.{path.stem}": [node.module for node in nodes(path, ast.ImportFrom)] for path in files()}
+        while draws:
+            free = [name for name in draws if not any(other in draws for other in draws[name])]
+            self.assertNotEqual(free, [], sorted(draws))
+            for name in free:
+                del draws[name]
+
+    def test_walked_at_once(self):
+        walkers = ("zip", "range", "enumerate", "reversed")
+        for path in files():
+            for node in nodes(path, ast.Assign, ast.Return):
+                kept = isinstance(node.value, ast.Call) and isinstance(node.value.func, ast.Name)
+                self.assertFalse(kept and node.value.func.id in walkers, f"{path.name} {node.lineno}")
+
+    def test_powers_are_written(self):
+        for path in files():
+            for node in nodes(path, ast.BinOp):
+                if isinstance(node.op, ast.Pow):
+                    self.assertIsInstance(node.right, ast.Constant, f"{path.name} {node.lineno}")
+
     def test_defs_and_classes_are_plain(self):
         for path in files():
             for node in nodes(path, ast.FunctionDef, ast.ClassDef):
@@ -133,9 +154,9 @@ class Language(unittest.TestCase):
             locals_too = [node.id for node in nodes(path, ast.Name) if isinstance(node.ctx, ast.Store)]
             for name in locals_too + [node.arg for node in nodes(path, ast.arg)]:
                 self.assertNotIn(name, drawn + boxes + dir(builtins), path.name)
+            known = given_names(path) + OWN
             for node in nodes(path, ast.Name):
-                known = node.id in given_names(path) or node.id in OWN
-                self.assertTrue(known, f"{path.name} {node.lineno} {node.id}")
+                self.assertIn(node.id, known, f"{path.name} {node.lineno}")
 
     def test_words_that_stand_nowhere(self):
         for path in files():
