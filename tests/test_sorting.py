@@ -63,7 +63,7 @@ SHUT = [
     (4, [[(1, 1, 1), (1, 1, 2)], [(1, -1, 2), ()], [(0, -1, 3), (0, 1, 0)], [(1, 1, 1), (0, -1, 1)]]),
 ]
 
-# (depth, machine): sorted by a back paper of this depth. (A paper of a lesser depth goes with shut sets.)
+# (depth, machine): sorted by a back paper of this depth. (With lesser depths, only machines with shut sets were found.)
 BACK = [
     (6, [[(1, 1, 2), (2, -1, 3), (3, -1, 2), (2, -1, 2)], [(2, -1, 0), (0, -1, 0), (0, -1, 2), ()],
          [(2, -1, 0), (3, 1, 3), (1, 1, 3), (2, 1, 3)], [(1, -1, 0), (1, 1, 1), (3, 1, 1), (2, 1, 1)]]),
